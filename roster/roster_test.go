@@ -141,6 +141,10 @@ func holds(t *testing.T, r api.Roster) {
 // events are such as may be next on r, and others beside them.
 func events(r api.Roster) []api.Event {
 	list := []api.Event{{}, {Kind: 3}, {Kind: api.Join, Slot: -1, Gen: 1}, {Kind: api.Leave, Slot: 8, Gen: 1}, {Kind: api.Leave, Slot: math.MinInt}}
+	for _, n := range []int{math.MinInt, math.MaxInt} {
+		list = append(list, api.Event{Kind: n, Gen: 1}, api.Event{Kind: api.Join, Slot: n, Gen: 1}, api.Event{Kind: api.Leave, Slot: n, Gen: 1},
+			api.Event{Kind: api.Join, Gen: n}, api.Event{Kind: api.Leave, Gen: n}, api.Event{Kind: api.Join, Gen: 1, Peer: n}, api.Event{Kind: api.Leave, Gen: 1, Peer: n})
+	}
 	for slot, s := range r.Seats {
 		for _, kind := range []int{0, api.Join, api.Leave, 3, -1} {
 			for _, gen := range []int{s.Gen - 1, s.Gen, s.Gen + 1, s.Gen + 2} {
@@ -190,6 +194,7 @@ func TestMay(t *testing.T) {
 		for seat, want := range map[api.Seat]bool{
 			{Peer: -1}: true, {Peer: -1, Gen: 1}: true, {Peer: -1, Gen: 60000}: true, {Peer: -1, Gen: 60001}: false, {Peer: -1, Gen: -1}: false,
 			{Peer: 0, Gen: 1}: true, {Peer: 3, Gen: 60000}: true, {Peer: 3, Gen: 60001}: false, {Peer: 0, Gen: 0}: false, {Peer: 0, Gen: -1}: false,
+			{Peer: -1, Gen: math.MinInt}: false, {Peer: -1, Gen: math.MaxInt}: false, {Peer: 0, Gen: math.MinInt}: false, {Peer: 0, Gen: math.MaxInt}: false,
 			{Peer: -2, Gen: 1}: false, {Peer: 12, Gen: 1}: false, {Peer: math.MinInt, Gen: 1}: false, {Peer: math.MaxInt, Gen: 1}: false,
 			{Peer: slot + 4, Gen: 1}: true, {Peer: (slot+1)%8 + 4, Gen: 1}: false, {Peer: (slot+7)%8 + 4, Gen: 1}: false,
 		} {
@@ -202,6 +207,62 @@ func TestMay(t *testing.T) {
 	}
 	if May(api.Roster{}) {
 		t.Error("peer 0 has all slots")
+	}
+}
+
+// Promises 8.1 and 8.3: no peer has two slots, whichever peer and slots they
+// are; that nobody has several is no fault.
+func TestHadTwice(t *testing.T) {
+	for peer := range api.MaxPeers {
+		for slot := range api.Slots {
+			for other := range slot {
+				r := New()
+				r.Seats[slot] = api.Seat{Peer: peer, Gen: 2}
+				r.Seats[other].Gen = 7
+				if !May(r) || Of(r, peer) != slot || Mask(r) != 1<<slot {
+					t.Fatalf("%+v: May %v, Of %d, Mask %#x", r, May(r), Of(r, peer), Mask(r))
+				}
+				r.Seats[other].Peer = peer
+				if May(r) || Of(r, peer) != -1 || Free(r) != -1 || Mask(r) != 0 {
+					t.Fatalf("%+v: May %v, Of %d, Free %d, Mask %#x", r, May(r), Of(r, peer), Free(r), Mask(r))
+				}
+				holds(t, r)
+			}
+		}
+	}
+}
+
+// Promise 8.1: all come, by the slot that is free, until nobody finds one; a
+// slot that was given less often goes ahead of one that has just been given back.
+func TestAllComeAndGo(t *testing.T) {
+	r, code := New(), 0
+	for peer := range api.Slots {
+		if free := Free(r); free != peer || Mask(r) != 1<<peer-1 {
+			t.Fatalf("%d are there: Free %d, Mask %#x", peer, free, Mask(r))
+		}
+		if r, code = Take(r, Free(r), peer); code != api.OK {
+			t.Fatalf("peer %d: %d", peer, code)
+		}
+		holds(t, r)
+	}
+	if got, code := Take(r, Free(r), 8); Free(r) != -1 || code != api.ErrArg || got != r {
+		t.Errorf("the ninth: Free %d, %+v, %d", Free(r), got, code)
+	}
+	for n, slot := range []int{6, 2, 6, 2, 5} { // each gives its slot back, and another has it at once
+		r, code = Give(r, slot)
+		if code != api.OK || Free(r) != slot || Mask(r) != 255-1<<slot {
+			t.Fatalf("slot %d: %d, Free %d, Mask %#x", slot, code, Free(r), Mask(r))
+		}
+		if r, code = Take(r, slot, []int{8, 9, 10, 11, 6}[n]); code != api.OK {
+			t.Fatalf("slot %d: %d", slot, code)
+		}
+		holds(t, r)
+	}
+	for _, slot := range []int{2, 6, 5, 7} {
+		r, _ = Give(r, slot)
+	}
+	if r.Version != 22 || r.Seats[2].Gen != 3 || r.Seats[5].Gen != 2 || Free(r) != 7 {
+		t.Errorf("%+v: Free %d", r, Free(r))
 	}
 }
 
@@ -279,12 +340,89 @@ func TestApply(t *testing.T) {
 	}
 }
 
+// Promise 8.3, T2: the times of a slot are numbered without a gap, to the last
+// one; behind it nobody has it any more, and all others go on.
+func TestEveryTime(t *testing.T) {
+	r, code := New(), 0
+	for gen := 1; gen <= 60000; gen++ {
+		peer := gen % 12
+		if r, code = Take(r, 4, peer); code != api.OK || r.Seats[4] != (api.Seat{Peer: peer, Gen: gen}) || r.Version != 2*gen-1 {
+			t.Fatalf("time %d: %+v, %d", gen, r, code)
+		}
+		if r, code = Give(r, 4); code != api.OK || r.Seats[4] != (api.Seat{Peer: -1, Gen: gen}) || r.Version != 2*gen {
+			t.Fatalf("time %d, given back: %+v, %d", gen, r, code)
+		}
+	}
+	if got, code := Take(r, 4, 0); code != api.ErrArg || got != r || Free(r) != 0 {
+		t.Errorf("behind the last time: %+v, %d", got, code)
+	}
+	if got, code := Apply(r, api.Event{Kind: api.Join, Slot: 4, Gen: 60001}); code != api.ErrArg || got != r {
+		t.Errorf("an event behind the last time: %+v, %d", got, code)
+	}
+	holds(t, r)
+}
+
+// Promise 8.3, T2: what was once doesn't come again: an event that comes twice,
+// or late, changes nothing, whoever has the slot then.
+func TestEventsOnceOnly(t *testing.T) {
+	by := rand.New(rand.NewPCG(8, 2))
+	r := New()
+	var past []api.Event
+	for range 1500 {
+		slot, peer := by.IntN(8), by.IntN(12)
+		e := api.Event{Kind: api.Join, Slot: slot, Gen: r.Seats[slot].Gen + 1, Peer: peer}
+		if r.Seats[slot].Peer != -1 {
+			e = api.Event{Kind: api.Leave, Slot: slot, Gen: r.Seats[slot].Gen, Peer: r.Seats[slot].Peer}
+		}
+		next, code := Apply(r, e)
+		if code != api.OK {
+			continue // the peer is in another slot
+		}
+		r, past = next, append(past, e)
+		for _, old := range past {
+			if got, code := Apply(r, old); code != api.ErrArg || got != r {
+				t.Fatalf("%+v and %+v, which was: %+v, %d", r, old, got, code)
+			}
+		}
+	}
+	again := New()
+	for _, e := range past { // the same events make the same roster, for whoever hears them
+		again, _ = Apply(again, e)
+	}
+	if again != r || r.Version != len(past) || len(past) < 500 {
+		t.Errorf("behind %d events: %+v, not %+v", len(past), again, r)
+	}
+}
+
+// turns are who has which slot, as a list of what went on tells it: nothing of
+// the rosters that were answered.
+type turns struct {
+	has   map[int]int // by slots: the peer
+	times map[int]int // by slots: how often it was given
+}
+
+// goOn tells whether e may be next, and lets it be.
+func (o *turns) goOn(e api.Event) bool {
+	peer, had := o.has[e.Slot]
+	if e.Kind == api.Leave {
+		delete(o.has, e.Slot)
+		return had && peer == e.Peer && o.times[e.Slot] == e.Gen
+	}
+	for _, other := range o.has {
+		had = had || other == e.Peer
+	}
+	o.has[e.Slot] = e.Peer
+	o.times[e.Slot]++
+	return !had && o.times[e.Slot] == e.Gen
+}
+
 // Promise 8.3: however it goes on, no slot is had twice at once, no peer has
 // two, and no number of a slot comes again.
 func TestEachTimeItsNumber(t *testing.T) {
 	by := rand.New(rand.NewPCG(8, 3))
 	r := New()
-	given := map[api.Seat]bool{} // Peer stands for the slot
+	seen := turns{map[int]int{}, map[int]int{}}
+	joins := 0
 	for n := range 20_000 {
 		slot, peer := by.IntN(10)-1, by.IntN(14)-1
 		e := api.Event{Kind: 1 + by.IntN(2), Slot: slot, Peer: peer, Gen: by.IntN(4)}
@@ -299,19 +437,18 @@ func TestEachTimeItsNumber(t *testing.T) {
 		if next != want || code != ok || !May(next) {
 			t.Fatalf("%+v and %+v: %+v, %d, not %+v, %d", r, e, next, code, want, ok)
 		}
+		if code == api.OK && !seen.goOn(e) {
+			t.Fatalf("%+v and %+v: it can't be next, and is", r, e)
+		}
 		if code == api.OK && e.Kind == api.Join {
-			if key := (api.Seat{Peer: slot, Gen: e.Gen}); given[key] {
-				t.Fatalf("slot %d is given as %d twice", slot, e.Gen)
-			} else {
-				given[key] = true
-			}
+			joins++
 		}
 		if r = next; n%100 == 0 {
 			holds(t, r)
 		}
 	}
-	if len(given) < 1000 || r.Version < 2000 {
-		t.Errorf("too little went on: %d, %+v", len(given), r)
+	if joins < 1000 || r.Version < 2000 {
+		t.Errorf("too little went on: %d, %+v", joins, r)
 	}
 }
 
