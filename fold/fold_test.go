@@ -8,6 +8,7 @@ import (
 	"testing"
 
 	"ceilidh/api"
+	"ceilidh/dice"
 	"ceilidh/entry"
 	"ceilidh/game"
 	"ceilidh/roster"
@@ -244,6 +245,94 @@ func TestLastFrame(t *testing.T) {
 	}
 	if _, code := holds(t, s, api.Entry{Frame: api.MaxFrame}); code != api.ErrArg {
 		t.Errorf("%d", code)
+	}
+}
+
+// Promise 10.2: a roster's ends are an entry's: there is no event beyond them,
+// also if the one ahead of it may still be.
+func TestRosterEnds(t *testing.T) {
+	const top = 1 << 30
+	ask := func(version, gen int, e api.Entry) (api.State, int) {
+		s := crowd(t, 2)
+		s.Roster.Version, s.Roster.Seats[3].Gen = version, gen
+		return holds(t, s, e)
+	}
+	nth := func(gen int) api.Entry {
+		return api.Entry{Frame: 1, Events: []api.Event{{Kind: api.Join, Slot: 3, Gen: gen, Peer: 0}}}
+	}
+	for name, c := range map[string]struct {
+		version, gen int
+		e            api.Entry
+		code         int
+	}{
+		"two that fit":         {top - 2, 0, join(1, 3, 4), api.OK},
+		"one that fits of two": {top - 1, 0, join(1, 3, 4), api.ErrArg},
+		"one that fits":        {top - 1, 0, join(1, 3), api.OK},
+		"one too many":         {top, 0, join(1, 3), api.ErrArg},
+		"none at the end":      {top, 0, api.Entry{Frame: 1}, api.OK},
+		"the last time":        {1, api.MaxGen - 1, nth(api.MaxGen), api.OK},
+		"given too often":      {1, api.MaxGen, nth(api.MaxGen), api.ErrArg},
+		"and once more":        {1, api.MaxGen, nth(api.MaxGen + 1), api.ErrArg},
+	} {
+		s, code := ask(c.version, c.gen, c.e)
+		if code != c.code || code == api.OK && s.Roster.Version != c.version+len(c.e.Events) {
+			t.Errorf("%s: %d, %+v", name, code, s)
+		}
+	}
+}
+
+// Promise 10.2: events are one behind the other: who is ahead is placed first.
+func TestPlacesInOrder(t *testing.T) {
+	s := crowd(t, 1, 6)
+	x, y, d := dice.Place(dice.Seed("crowd"))
+	if ship := s.Game.Ships[1]; ship.X != x || ship.Y != y {
+		t.Errorf("%+v isn't at %d, %d", ship, x, y)
+	}
+	x, y, d = dice.Place(d)
+	if ship := s.Game.Ships[6]; ship.X != x || ship.Y != y || s.Game.Dice != d {
+		t.Errorf("%+v isn't at %d, %d", ship, x, y)
+	}
+}
+
+// Promise 10.2: events are ahead of the frame: where who leaves had all shots,
+// there is room in it.
+func TestLeaveMakesRoom(t *testing.T) {
+	s := crowd(t, 2, 5)
+	s.Game.Shots = slices.Repeat([]api.Shot{{Owner: 2, Left: api.Life}}, api.MaxShots)
+	e := api.Entry{Frame: 1}
+	e.Inputs[5].B = 1
+	n, code := holds(t, s, e)
+	if code != api.OK || slices.ContainsFunc(n.Game.Shots, func(shot api.Shot) bool { return shot.Owner == 5 }) {
+		t.Errorf("no room: %+v, %d", n, code)
+	}
+	e.Events = []api.Event{{Kind: api.Leave, Slot: 2, Gen: 1, Peer: 6}}
+	n, code = holds(t, s, e)
+	if code != api.OK || len(n.Game.Shots) != 1 || n.Game.Shots[0].Owner != 5 {
+		t.Errorf("all the room: %+v, %d", n, code)
+	}
+}
+
+// Rules 1 and 4: whatever is thrown within, a code is answered, beside the state
+// as it was. (No entry can bring Step's ErrEnd: its Frame is below MaxFrame.)
+func TestThrown(t *testing.T) {
+	s := crowd(t, 2, 5)
+	s.Game.Shots = make([]api.Shot, 3)
+	for name, c := range map[string]struct {
+		throw func()
+		code  int
+	}{
+		"ErrArg":  {func() { needThat(false) }, api.ErrArg},
+		"ErrEnd":  {func() { need(api.ErrEnd) }, api.ErrEnd},
+		"another": {func() { panic("another") }, api.ErrArg},
+		"a fault": {func() { s.Game.Shots[len(s.Game.Shots)].Left = 0 }, api.ErrArg},
+	} {
+		got, code := attempt(s, func() api.State {
+			c.throw()
+			return api.State{}
+		})
+		if code != c.code || !wantSame(got, s) || &got.Game.Shots[0] == &s.Game.Shots[0] {
+			t.Errorf("%s: %+v, %d", name, got, code)
+		}
 	}
 }
 
