@@ -9,7 +9,7 @@ type Pass func(size int, v uint64) uint64
 
 // Number is what a part of a thing may be.
 type Number interface {
-	int | int8 | int32 | uint8 | uint64
+	int | int8 | int32 | uint8 | uint16 | uint32 | uint64
 }
 
 // Writer puts numbers behind b.
@@ -38,6 +38,19 @@ func Reader(b *[]byte) Pass {
 // Part takes a part of so many bytes by.
 func Part[T Number](by Pass, size int, part *T) {
 	*part = T(by(size, uint64(*part)))
+}
+
+// List takes a list by, in memory of its own, since the one that was handed in is
+// only read: of so many bytes how many parts it has, then each of them.
+func List[T any](by Pass, size int, list *[]T, each func(by Pass, part *T)) {
+	count := len(*list)
+	Part(by, size, &count)
+	own := make([]T, count)
+	copy(own, *list)
+	for i := range own {
+		each(by, &own[i])
+	}
+	*list = own
 }
 
 // Need throws why, unless ok: the layer's face catches it, and tells a code for it.

@@ -3,6 +3,7 @@ package lay
 import (
 	"bytes"
 	"math"
+	"slices"
 	"testing"
 )
 
@@ -13,6 +14,8 @@ type numbers struct {
 	place  int32
 	button uint8
 	whole  uint64
+	number uint16
+	bits   uint32
 }
 
 // layNumbers takes all of n by, each with the bytes that it has.
@@ -22,16 +25,18 @@ func layNumbers(by Pass, n *numbers) {
 	Part(by, 4, &n.place)
 	Part(by, 1, &n.button)
 	Part(by, 8, &n.whole)
+	Part(by, 2, &n.number)
+	Part(by, 4, &n.bits)
 }
 
 // The same layout writes and reads, the least byte first; signs come back where
 // a part is as narrow as its bytes.
 func TestThereAndBack(t *testing.T) {
 	for want, n := range map[string]numbers{
-		"\x00\x00\x00\x00\x00\x00\x00\x00\x00\x00\x00\x00\x00\x00\x00\x00": {},
-		"\xff\x02\x01\xfe\xff\xff\xff\xfd\x08\x07\x06\x05\x04\x03\x02\x01": {-1, 0x0102, -2, 0xfd, 0x0102030405060708},
-		"\x80\xff\xff\x00\x00\x00\x80\xff\xff\xff\xff\xff\xff\xff\xff\xff": {math.MinInt8, 0xffff, math.MinInt32, 255, math.MaxUint64},
-		"\x7f\x00\x80\xff\xff\xff\x7f\x80\x00\x00\x00\x00\x00\x00\x00\x80": {math.MaxInt8, 0x8000, math.MaxInt32, 128, 1 << 63},
+		"\x00\x00\x00\x00\x00\x00\x00\x00\x00\x00\x00\x00\x00\x00\x00\x00" + "\x00\x00\x00\x00\x00\x00": {},
+		"\xff\x02\x01\xfe\xff\xff\xff\xfd\x08\x07\x06\x05\x04\x03\x02\x01" + "\x0a\x09\x0e\x0d\x0c\x0b": {-1, 0x0102, -2, 0xfd, 0x0102030405060708, 0x090a, 0x0b0c0d0e},
+		"\x80\xff\xff\x00\x00\x00\x80\xff\xff\xff\xff\xff\xff\xff\xff\xff" + "\xff\xff\xff\xff\xff\xff": {math.MinInt8, 0xffff, math.MinInt32, 255, math.MaxUint64, math.MaxUint16, math.MaxUint32},
+		"\x7f\x00\x80\xff\xff\xff\x7f\x80\x00\x00\x00\x00\x00\x00\x00\x80" + "\x00\x80\x00\x00\x00\x80": {math.MaxInt8, 0x8000, math.MaxInt32, 128, 1 << 63, 1 << 15, 1 << 31},
 	} {
 		b := []byte("ahead")
 		was := n
@@ -39,7 +44,7 @@ func TestThereAndBack(t *testing.T) {
 		if string(b) != "ahead"+want || n != was {
 			t.Errorf("%+v: %x", n, b)
 		}
-		back := numbers{9, 9, 9, 9, 9}
+		back := numbers{9, 9, 9, 9, 9, 9, 9}
 		b = append(b, "behind"...)[5:]
 		layNumbers(Reader(&b), &back)
 		if back != n || string(b) != "behind" {
@@ -55,6 +60,59 @@ func TestWriterKeepsToItsBytes(t *testing.T) {
 	Part(Writer(&b), 2, &plain)
 	if !bytes.Equal(b, []byte{4, 3}) {
 		t.Errorf("%x", b)
+	}
+}
+
+// layPair takes two numbers by, the first of one byte and the second of two.
+func layPair(by Pass, pair *[2]int) {
+	Part(by, 1, &pair[0])
+	Part(by, 2, &pair[1])
+}
+
+// A list has how many there are ahead of them, and comes back whatever the reader
+// had; the ones that were handed in are only read.
+func TestList(t *testing.T) {
+	for want, list := range map[string][][2]int{
+		"\x00\x00":                              nil,
+		"\x01\x00" + "\x07\x09\x08":             {{7, 0x0809}},
+		"\x02\x00" + "\x01\x00\x00\x02\xff\xff": {{1, 0}, {2, 0xffff}},
+	} {
+		b := []byte("ahead")
+		put := slices.Clone(list)
+		List(Writer(&b), 2, &put, layPair)
+		if string(b) != "ahead"+want || !slices.Equal(put, list) {
+			t.Errorf("%v: %x, %v", list, b, put)
+		}
+		for _, had := range [][][2]int{nil, {{3, 4}}, {{3, 4}, {5, 6}, {7, 8}}} {
+			got, was := had, slices.Clone(had)
+			from := append(b, "behind"...)[5:]
+			List(Reader(&from), 2, &got, layPair)
+			if !slices.Equal(got, list) || string(from) != "behind" || !slices.Equal(had, was) {
+				t.Errorf("%v comes back as %v; %q is left", list, got, from)
+			}
+		}
+	}
+}
+
+// What whoever takes the parts by makes of them is not written into the list that
+// was handed in.
+func TestListIsOwn(t *testing.T) {
+	list := []int{1, 2, 3}
+	was := list
+	var b []byte
+	List(Writer(&b), 1, &list, func(by Pass, part *int) { Part(by, 1, part); *part = 9 })
+	if !bytes.Equal(b, []byte{3, 1, 2, 3}) || !slices.Equal(was, []int{1, 2, 3}) || !slices.Equal(list, []int{9, 9, 9}) {
+		t.Errorf("%x, %v, %v", b, was, list)
+	}
+}
+
+// A list whose bytes end too soon is told.
+func TestListTooShort(t *testing.T) {
+	for _, b := range [][]byte{{}, {1}, {1, 0}, {1, 0, 7, 8}, {2, 0, 7, 8, 9}, {255, 255, 7, 8, 9}} {
+		var list [][2]int
+		if why := thrown(func() { List(Reader(&b), 2, &list, layPair) }); why != "too few bytes" || list != nil {
+			t.Errorf("%x: %v, %v", b, why, list)
+		}
 	}
 }
 
